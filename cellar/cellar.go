@@ -1,0 +1,49 @@
+// Package cellar: trees of files as blobs under digests: see DOC.md.
+package cellar
+
+import (
+	"cellar/api"
+	"cellar/directory"
+	"cellar/text"
+)
+
+// Digest is that of a blob (P3).
+func Digest(blob string) string { return text.Digest(blob) }
+
+// Encode makes the bytes of a directory (P4).
+func Encode(l []api.Item) (string, api.Errno) { return directory.Encode(l) }
+
+// Decode makes a directory of bytes (P5).
+func Decode(blob string) ([]api.Item, api.Errno) { return directory.Decode(blob) }
+
+// Build makes the blobs of a tree, and its root (P6).
+func Build(tree []api.Entry) (string, []string, api.Errno) { return "", nil, api.OK }
+
+// Clash tells of two trees of one root where they are not the same (P7).
+func Clash(a, b []api.Entry) (string, string, api.Errno) { return "", "", api.OK }
+
+// Store keeps blobs.
+type Store struct{}
+
+// New makes an empty store (P8).
+func New(room int) (*Store, api.Errno) { return nil, api.OK }
+
+// Put puts a blob in (P8).
+func (s *Store) Put(blob string) api.Errno { return api.OK }
+
+// Get gets a blob (P8).
+func (s *Store) Get(digest string) (string, api.Errno) { return "", api.OK }
+
+// Missing tells which of some are not there (P8).
+func (s *Store) Missing(digests []string) []string { return nil }
+
+// Plant puts any bytes under any digest (P8).
+func (s *Store) Plant(digest, blob string) {}
+
+// Upload brings a tree into the store, over a link (P9).
+func (s *Store) Upload(tree []api.Entry, p api.Plan) (string, api.Sent, api.Errno) {
+	return "", api.Sent{}, api.OK
+}
+
+// Fetch gets a tree by its root (P10).
+func (s *Store) Fetch(root string, entries, depth int) ([]api.Entry, api.Errno) { return nil, api.OK }
