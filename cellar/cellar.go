@@ -3,6 +3,7 @@ package cellar
 
 import (
 	"cellar/api"
+	"cellar/blobs"
 	"cellar/directory"
 	"cellar/text"
 )
@@ -17,10 +18,23 @@ func Encode(l []api.Item) (string, api.Errno) { return directory.Encode(l) }
 func Decode(blob string) ([]api.Item, api.Errno) { return directory.Decode(blob) }
 
 // Build makes the blobs of a tree, and its root (P6).
-func Build(tree []api.Entry) (string, []string, api.Errno) { return "", nil, api.OK }
+func Build(tree []api.Entry) (string, []string, api.Errno) {
+	set, e := blobs.Of(tree)
+	return set.Root, set.List(), e
+}
 
 // Clash tells of two trees of one root where they are not the same (P7).
-func Clash(a, b []api.Entry) (string, string, api.Errno) { return "", "", api.OK }
+func Clash(a, b []api.Entry) (string, string, api.Errno) {
+	first, e := blobs.Of(a)
+	if e != api.OK {
+		return "", "", e
+	}
+	second, e := blobs.Of(b)
+	if e != api.OK {
+		return "", "", e
+	}
+	return blobs.Clash(first, second)
+}
 
 // Store keeps blobs.
 type Store struct{}
