@@ -5,7 +5,10 @@ import (
 	"cellar/api"
 	"cellar/blobs"
 	"cellar/directory"
+	"cellar/fetch"
+	"cellar/store"
 	"cellar/text"
+	"cellar/upload"
 )
 
 // Digest is that of a blob (P3).
@@ -37,27 +40,35 @@ func Clash(a, b []api.Entry) (string, string, api.Errno) {
 }
 
 // Store keeps blobs.
-type Store struct{}
+type Store struct{ kept *store.Store }
 
 // New makes an empty store (P8).
-func New(room int) (*Store, api.Errno) { return nil, api.OK }
+func New(room int) (*Store, api.Errno) {
+	kept, e := store.New(room)
+	if e != api.OK {
+		return nil, e
+	}
+	return &Store{kept}, api.OK
+}
 
 // Put puts a blob in (P8).
-func (s *Store) Put(blob string) api.Errno { return api.OK }
+func (s *Store) Put(blob string) api.Errno { return s.kept.Put(blob) }
 
 // Get gets a blob (P8).
-func (s *Store) Get(digest string) (string, api.Errno) { return "", api.OK }
+func (s *Store) Get(digest string) (string, api.Errno) { return s.kept.Get(digest) }
 
 // Missing tells which of some are not there (P8).
-func (s *Store) Missing(digests []string) []string { return nil }
+func (s *Store) Missing(digests []string) []string { return s.kept.Missing(digests) }
 
 // Plant puts any bytes under any digest (P8).
-func (s *Store) Plant(digest, blob string) {}
+func (s *Store) Plant(digest, blob string) { s.kept.Plant(digest, blob) }
 
 // Upload brings a tree into the store, over a link (P9).
 func (s *Store) Upload(tree []api.Entry, p api.Plan) (string, api.Sent, api.Errno) {
-	return "", api.Sent{}, api.OK
+	return upload.Tree(s.kept, tree, p)
 }
 
 // Fetch gets a tree by its root (P10).
-func (s *Store) Fetch(root string, entries, depth int) ([]api.Entry, api.Errno) { return nil, api.OK }
+func (s *Store) Fetch(root string, entries, depth int) ([]api.Entry, api.Errno) {
+	return fetch.Tree(s.kept, root, entries, depth)
+}

@@ -10,19 +10,20 @@ import (
 func AnyLeadsOut(entries []api.Entry) bool {
 	out := false
 	Walk(entries, func(entry api.Entry) {
-		if entry.Kind == api.Link && LeadsOut(strings.Count(entry.Path, "/"), entry.Data) {
+		if entry.Kind == api.Link && LeadsOut(entry.Path, entry.Data) {
 			out = true
 		}
 	})
 	return out
 }
 
-// LeadsOut tells whether a target goes above the tree's top, from a directory on
-// that stands so many names below it.
-func LeadsOut(below int, target string) bool {
+// LeadsOut tells whether a link at this path goes above the tree's top by its target.
+func LeadsOut(path, target string) bool {
 	if strings.HasPrefix(target, "/") {
 		return true
 	}
+	// The way begins at the link's directory, which its own name is not part of.
+	below := Depth(path) - 1
 	for _, part := range strings.Split(target, "/") {
 		below += down(part)
 		// At each part, as one that comes back is out all the same.

@@ -44,6 +44,17 @@ func Split(path string) (dir, name string) {
 	return path[:slash], path[slash+1:]
 }
 
+// Join is the path of what has this name in a directory.
+func Join(dir, name string) string {
+	if dir == Top {
+		return name
+	}
+	return dir + "/" + name
+}
+
+// Depth is how many names a path has.
+func Depth(path string) int { return strings.Count(path, "/") + 1 }
+
 func isEntry(entry api.Entry) bool {
 	return isPath(entry.Path) && isData(entry.Kind, entry.Data)
 }

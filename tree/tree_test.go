@@ -39,18 +39,30 @@ func TestSplit(t *testing.T) {
 	}
 }
 
+func TestJoinAndDepth(t *testing.T) {
+	for _, c := range []struct {
+		dir, name, path string
+		depth           int
+	}{
+		{Top, "a", "a", 1}, {"a", "b", "a/b", 2}, {"a/b/c", "d", "a/b/c/d", 4}, {"\xff", "é", "\xff/é", 2},
+	} {
+		if path := Join(c.dir, c.name); path != c.path || Depth(path) != c.depth {
+			t.Errorf("Join(%q, %q) = %q, which has %d names", c.dir, c.name, path, Depth(path))
+		}
+	}
+}
+
 func TestLeadsOut(t *testing.T) {
 	for _, c := range []struct {
-		below  int
-		target string
-		want   bool
+		path, target string
+		want         bool
 	}{
-		{0, "x", false}, {0, ".", false}, {0, "..", true}, {0, "x/..", false}, {0, "x/../..", true}, {0, "x/../../x", true},
-		{1, "..", false}, {1, "../..", true}, {1, "/", true}, {1, "x//.././..", false}, {4, "../../../..", false}, {4, "../../../../..", true},
-		{0, "", false}, {2, "/../x", true}, {0, "...", false},
+		{"l", "x", false}, {"l", ".", false}, {"l", "..", true}, {"l", "x/..", false}, {"l", "x/../..", true}, {"l", "x/../../x", true},
+		{"d/l", "..", false}, {"d/l", "../..", true}, {"d/l", "/", true}, {"d/l", "x//.././..", false}, {"a/b/c/d/l", "../../../..", false}, {"a/b/c/d/l", "../../../../..", true},
+		{"l", "", false}, {"a/b/l", "/../x", true}, {"l", "...", false},
 	} {
-		if got := LeadsOut(c.below, c.target); got != c.want {
-			t.Errorf("LeadsOut(%d, %q) = %t", c.below, c.target, got)
+		if got := LeadsOut(c.path, c.target); got != c.want {
+			t.Errorf("LeadsOut(%q, %q) = %t", c.path, c.target, got)
 		}
 	}
 }
